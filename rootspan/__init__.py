@@ -1,0 +1,1 @@
+"""Rootspan: numbers that are roots, told exactly."""
