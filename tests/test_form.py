@@ -1,4 +1,8 @@
-"""Looks at the form of the package's files: the rules of LANGUAGE.md that can be seen file by file."""
+"""Looks at the form of the package's files: a part of LANGUAGE.md alone.
+
+Looked at are signs, sizes, words, kinds of statements, names and imports. Not looked at, so still to be read by eye,
+are L13, L15 but for its names, L18, L19, L22 to L24, L26, L28 and the rest of L27.
+"""
 
 import ast
 import builtins
