@@ -73,20 +73,21 @@ def plain(row):
     return small
 
 
-# Whole numbers (top, bottom), bottom above 0, not in lowest terms: the sign alone needs no more.
-def value_parts(row, ratio):
-    top = 0
-    bottom = 1
+# The value at top / bottom as whole numbers, the second above 0 where bottom is, not in lowest terms:
+# the sign alone needs no more.
+def value_parts(row, top, bottom):
+    above = 0
+    below = 1
     for value in reversed(row):
-        bottom = bottom * ratio.bottom
-        top = top * ratio.top + value * bottom
-    return (top, bottom)
+        below = below * bottom
+        above = above * top + value * below
+    return (above, below)
 
 
 def value_at(row, ratio):
-    parts = value_parts(row, ratio)
+    parts = value_parts(row, ratio.top, ratio.bottom)
     return Ratio(parts[0], parts[1])
 
 
 def sign_at(row, ratio):
-    return whole_sign(value_parts(row, ratio)[0])
+    return whole_sign(value_parts(row, ratio.top, ratio.bottom)[0])

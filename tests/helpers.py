@@ -1,0 +1,142 @@
+"""What several test files need: roots known ahead, polynomials built of known factors, and a look at whose a list is."""
+
+from fractions import Fraction
+from math import gcd
+
+from rootspan.ratios import Ratio
+
+# Plain, none of them a product of two others over the fractions, no two alike; three have no real root.
+PRIMES = [
+    [0, 1], [-1, 1], [1, 2], [-2, 3], [1, 0, 1], [-2, 0, 1], [3, 1, 1], [-1, -1, 0, 1], [2, 0, 0, 5], [1, 0, 0, 0, 1],
+]
+GREAT = [7 * 10 ** 38 + 3, -(10 ** 39 + 9), 0, 10 ** 39 + 57]
+
+
+def ratio(fraction):
+    return Ratio(Fraction(fraction).numerator, Fraction(fraction).denominator)
+
+
+def worth(told):
+    return Fraction(told.top, told.bottom)
+
+
+def span(pair):
+    return (worth(pair[0]), worth(pair[1]))
+
+
+def product(*rows):
+    found = [1]
+    for row in rows:
+        if not row:
+            return []
+        terms = [0] * (len(found) + len(row) - 1)
+        for j, one in enumerate(found):
+            for k, other in enumerate(row):
+                terms[j + k] += one * other
+        found = terms
+    return found
+
+
+def raised(row, power):
+    return product(*[row] * power)
+
+
+def scaled(row, factor):
+    return [factor * value for value in row]
+
+
+def value(row, at):
+    return sum((c * at ** k for k, c in enumerate(row)), Fraction(0))
+
+
+def sign(number):
+    return (number > 0) - (number < 0)
+
+
+def plain_of(row):
+    divisor = gcd(*row) if row else 1
+    return [c // divisor * (1 if row[-1] > 0 else -1) for c in row]
+
+
+# PRIMES to the powers told, times a constant.
+def built(powers, factor=1):
+    return scaled(product(*[raised(prime, k) for prime, k in zip(PRIMES, powers)]), factor)
+
+
+def line(fraction):
+    return [-Fraction(fraction).numerator, Fraction(fraction).denominator]
+
+
+class Known:
+    """A real root that is known: shift + way * (the power-th root of below), below a fraction from 0 on."""
+
+    def __init__(self, shift, way=0, below=0, power=2):
+        self.shift, self.way, self.below, self.power = Fraction(shift), way, Fraction(below), power
+
+    def above(self, at):
+        beside = Fraction(at) - self.shift
+        reach = self.way * self.below
+        return reach > sign(beside) * abs(beside) ** self.power
+
+    def within(self, low, high):
+        return self.above(low) and not self.above(high)
+
+    # Of degree one or the root's power, over the whole numbers.
+    def row(self):
+        if self.way == 0:
+            return line(self.shift)
+        terms = raised(line(self.shift), self.power)
+        end = Fraction(self.way ** self.power) * self.below * self.shift.denominator ** self.power
+        terms = [Fraction(c) for c in terms]
+        terms[0] -= end
+        size = terms[0].denominator
+        return plain_of([int(c * size) for c in terms])
+
+
+def rational(*roots):
+    return [Known(root) for root in roots]
+
+
+# Both square roots, so that they are all the real roots of the one row.
+def squares(shift, below):
+    return [Known(shift, -1, below), Known(shift, 1, below)]
+
+
+def shown(thing):
+    if isinstance(thing, Ratio):
+        return ("ratio", thing.top, thing.bottom)
+    if isinstance(thing, (list, tuple)):
+        return (type(thing).__name__, [shown(one) for one in thing])
+    if hasattr(thing, "poly"):
+        return ("number", list(thing.poly))
+    return (type(thing).__name__, thing)
+
+
+# Changes each list that is in a thing, but those in fields, which are only read.
+def scramble(thing):
+    if isinstance(thing, (list, tuple)):
+        for one in thing:
+            scramble(one)
+    if isinstance(thing, list):
+        if thing and isinstance(thing[0], int):
+            thing[0] += 1
+        elif thing:
+            thing.pop()
+        thing.append(97)
+
+
+# Promise 2: what is handed in stays, what is given is the asker's own. Make gives the arguments anew.
+def look_at_sharing(test, call, make):
+    lists = make()
+    before = shown(lists)
+    said = call(*lists)
+    told = shown(said)
+    test.assertEqual(shown(lists), before)
+    scramble(said)
+    test.assertEqual(shown(lists), before)
+    again = call(*lists)
+    test.assertEqual(shown(again), told)
+    test.assertEqual(shown(lists), before)
+    scramble(lists)
+    test.assertEqual(shown(again), told)
+    test.assertEqual(shown(call(*make())), told)
