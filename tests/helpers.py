@@ -67,6 +67,24 @@ def line(fraction):
     return [-Fraction(fraction).numerator, Fraction(fraction).denominator]
 
 
+# A determinant by another way than the program's: elimination with fractions.
+def by_fractions(rows):
+    left = [[Fraction(c) for c in row] for row in rows]
+    found = Fraction(1)
+    for k in range(len(left)):
+        at = next((j for j in range(k, len(left)) if left[j][k] != 0), None)
+        if at is None:
+            return 0
+        if at != k:
+            left[k], left[at] = left[at], left[k]
+            found = -found
+        found *= left[k][k]
+        for j in range(k + 1, len(left)):
+            factor = left[j][k] / left[k][k]
+            left[j] = [one - factor * other for one, other in zip(left[j], left[k])]
+    return found
+
+
 class Known:
     """A real root that is known: shift + way * (the power-th root of below), below a fraction from 0 on."""
 
@@ -102,13 +120,23 @@ def squares(shift, below):
     return [Known(shift, -1, below), Known(shift, 1, below)]
 
 
-def shown(thing):
+# The product of the roots' rows, each row once.
+def row_with(roots, others=()):
+    rows = list(others)
+    for root in roots:
+        if root.row() not in rows:
+            rows.append(root.row())
+    return product(*rows)
+
+
+# Of a Number that is given, the span is left out: which one it has is not promised.
+def shown(thing, spans=False):
     if isinstance(thing, Ratio):
         return ("ratio", thing.top, thing.bottom)
     if isinstance(thing, (list, tuple)):
-        return (type(thing).__name__, [shown(one) for one in thing])
+        return (type(thing).__name__, [shown(one, spans) for one in thing])
     if hasattr(thing, "poly"):
-        return ("number", list(thing.poly))
+        return ("number", list(thing.poly), [shown(end) for end in (thing.low, thing.high) if spans])
     return (type(thing).__name__, thing)
 
 
@@ -128,15 +156,15 @@ def scramble(thing):
 # Promise 2: what is handed in stays, what is given is the asker's own. Make gives the arguments anew.
 def look_at_sharing(test, call, make):
     lists = make()
-    before = shown(lists)
+    before = shown(lists, True)
     said = call(*lists)
     told = shown(said)
-    test.assertEqual(shown(lists), before)
+    test.assertEqual(shown(lists, True), before)
     scramble(said)
-    test.assertEqual(shown(lists), before)
+    test.assertEqual(shown(lists, True), before)
     again = call(*lists)
     test.assertEqual(shown(again), told)
-    test.assertEqual(shown(lists), before)
+    test.assertEqual(shown(lists, True), before)
     scramble(lists)
     test.assertEqual(shown(again), told)
     test.assertEqual(shown(call(*make())), told)

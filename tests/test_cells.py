@@ -2,7 +2,7 @@ import random
 import unittest
 from fractions import Fraction
 
-from helpers import GREAT, Known, look_at_sharing, product, ratio, rational, scaled, span, squares
+from helpers import GREAT, Known, look_at_sharing, product, ratio, rational, row_with, scaled, span, squares
 from rootspan.cells import bound, cells, narrowed
 from rootspan.polys import plain
 from rootspan.ratios import Ratio
@@ -62,14 +62,6 @@ def known_narrowed(root, low, high, width):
         cut = (low + high) / 2
         low, high = (low, cut) if root.within(low, cut) else (cut, high)
     return (low, high)
-
-
-def row_with(roots, others=()):
-    rows = list(others)
-    for root in roots:
-        if root.row() not in rows:
-            rows.append(root.row())
-    return product(*rows)
 
 
 def bound_of(row):

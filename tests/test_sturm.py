@@ -3,7 +3,7 @@ import unittest
 from fractions import Fraction
 from math import gcd, lcm
 
-from helpers import GREAT, Known, built, look_at_sharing, product, ratio, rational, scaled, squares
+from helpers import GREAT, Known, built, look_at_sharing, product, ratio, rational, row_with, scaled, squares
 from rootspan.ratios import Ratio
 from rootspan.sturm import changes, count, row_of
 
@@ -149,13 +149,6 @@ class Count(unittest.TestCase):
         yield squares(Fraction(1, 2), Fraction(5, 4)) + rational(3), []
         yield squares(0, 2) + squares(0, 3) + rational(0), [[3, 1, 1]]
 
-    def row(self, roots, others):
-        rows = list(others)
-        for root in roots:
-            if root.row() not in rows:
-                rows.append(root.row())
-        return product(*rows)
-
     def points(self, roots):
         found = {Fraction(0), Fraction(1), Fraction(-1), Fraction(3, 2), Fraction(-100), Fraction(100), Fraction(141421356, 10 ** 8)}
         for root in roots:
@@ -166,7 +159,7 @@ class Count(unittest.TestCase):
     def test_roots_above_low_and_not_above_high(self):
         for roots, others in self.samples():
             for factor in (1, -1, 6, -15):
-                row = row_of(scaled(self.row(roots, others), factor))
+                row = row_of(scaled(row_with(roots, others), factor))
                 points = self.points(roots)
                 for low in points:
                     for high in points:
@@ -182,7 +175,7 @@ class Count(unittest.TestCase):
         for at in (-2, -1, 0, 1, 2):
             self.assertEqual(count(row, Ratio(at), Ratio(at)), 0)
         for roots, others in self.samples():
-            row = row_of(self.row(roots, others))
+            row = row_of(row_with(roots, others))
             points = self.points(roots)
             for low, high in zip(points, reversed(points)):
                 self.assertEqual(count(row, ratio(low), ratio(high)), -count(row, ratio(high), ratio(low)))
