@@ -4,6 +4,7 @@ from rootspan.cells import bound, cells, narrowed
 from rootspan.factors import divides
 from rootspan.polys import degree, plain, sign_at
 from rootspan.ratios import Ratio
+from rootspan.spans import span_product
 from rootspan.sturm import count, row_of
 
 
@@ -45,16 +46,8 @@ def line_of(whole, span):
 def square_of(whole, span, other):
     last = whole[-1]
     together = times_floor(last, span[1].plus(other[1]))
-    return plain([times_floor(last, greatest_product(span, other)), -together, last])
+    return plain([times_floor(last, span_product(span, other)[1]), -together, last])
 
 
 def times_floor(factor, ratio):
     return Ratio(factor).times(ratio).floor()
-
-
-def greatest_product(span, other):
-    found = span[0].times(other[0])
-    for product in (span[0].times(other[1]), span[1].times(other[0]), span[1].times(other[1])):
-        if product.against(found) > 0:
-            found = product
-    return found

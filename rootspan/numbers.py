@@ -19,7 +19,7 @@ class Number:
 
 
 def number(row, low=None, high=None):
-    refuse_high(row)
+    refuse_high(degree(row))
     if degree(row) < 1:
         raise NoRoot(0)
     start = Ratio(-bound(row)) if low is None else low
@@ -32,9 +32,9 @@ def number(row, low=None, high=None):
     return number_in(simple, start, end)
 
 
-def refuse_high(row):
-    if degree(row) > HIGHEST:
-        raise TooHigh(degree(row))
+def refuse_high(height):
+    if height > HIGHEST:
+        raise TooHigh(height)
 
 
 def refuse_great(row):
@@ -64,7 +64,7 @@ def fraction(ratio):
 
 
 def roots(row):
-    refuse_high(row)
+    refuse_high(degree(row))
     simple = without_squares(row)
     refuse_great(simple)
     return [number_in(simple, cell[0], cell[1]) for cell in cells(simple)]

@@ -1,9 +1,15 @@
 """What several test files need: roots known ahead, polynomials built of known factors, and a look at whose a list is."""
 
+import unittest
 from fractions import Fraction
-from math import gcd
+from math import ceil, floor, gcd
 
+from rootspan.errors import RootError
+from rootspan.factors import without_squares
+from rootspan.numbers import Number
+from rootspan.parts import Part
 from rootspan.ratios import Ratio
+from rootspan.sturm import count, row_of
 
 # Plain, none of them a product of two others over the fractions, no two alike; three have no real root.
 PRIMES = [
@@ -111,6 +117,65 @@ class Known:
         return plain_of([int(c * size) for c in terms])
 
 
+# The greatest whole number whose power is not above the whole number, which is from 0 on.
+def whole_root(number, power):
+    low, high = 0, 1 << (number.bit_length() // power + 1)
+    while high - low > 1:
+        half = (low + high) // 2
+        low, high = (half, high) if half ** power <= number else (low, half)
+    return low
+
+
+class Enclosed:
+    """A real number between two fractions that are very near each other: another way to it than the program's."""
+
+    fine = 10 ** 100
+
+    def __init__(self, low, high=None):
+        self.low = Fraction(low)
+        self.high = self.low if high is None else Fraction(high)
+
+    # Rounded outward, so that the ends stay short; fractions that are exact stay so.
+    def near(self):
+        if self.low == self.high:
+            return self
+        return Enclosed(Fraction(floor(self.low * self.fine), self.fine), Fraction(ceil(self.high * self.fine), self.fine))
+
+    def plus(self, other):
+        return Enclosed(self.low + other.low, self.high + other.high).near()
+
+    def opposite(self):
+        return Enclosed(-self.high, -self.low)
+
+    def minus(self, other):
+        return self.plus(other.opposite())
+
+    def times(self, other):
+        ends = [one * two for one in (self.low, self.high) for two in (other.low, other.high)]
+        return Enclosed(min(ends), max(ends)).near()
+
+    def over(self, other):
+        assert other.low > 0 or other.high < 0
+        return self.times(Enclosed(1 / other.high, 1 / other.low))
+
+    def power(self, k):
+        found = Enclosed(1)
+        for _ in range(k):
+            found = found.times(self)
+        return found
+
+    def root(self, k):
+        if self.high <= 0 and k % 2:
+            return self.opposite().root(k).opposite() if self.low < 0 else self
+        low, high = [Fraction(whole_root(floor(end * self.fine ** k), k), self.fine) for end in (self.low, self.high)]
+        if low ** k == self.low and high ** k == self.high:
+            return Enclosed(low, high)
+        return Enclosed(low, high + Fraction(1, self.fine))
+
+    def within(self, low, high):
+        return low < self.low and self.high <= high
+
+
 def rational(*roots):
     return [Known(root) for root in roots]
 
@@ -135,12 +200,16 @@ def shown(thing, spans=False):
         return ("ratio", thing.top, thing.bottom)
     if isinstance(thing, (list, tuple)):
         return (type(thing).__name__, [shown(one, spans) for one in thing])
-    if hasattr(thing, "poly"):
+    if isinstance(thing, dict):
+        return ("dict", [(key, shown(one, spans)) for key, one in thing.items()])
+    if isinstance(thing, Part):
+        return (type(thing).__name__, sorted((key, shown(one, True)) for key, one in vars(thing).items()))
+    if isinstance(thing, Number):
         return ("number", list(thing.poly), [shown(end) for end in (thing.low, thing.high) if spans])
     return (type(thing).__name__, thing)
 
 
-# Changes each list that is in a thing, but those in fields, which are only read.
+# Changes each list and dict that is in a thing, but those in fields, which are only read.
 def scramble(thing):
     if isinstance(thing, (list, tuple)):
         for one in thing:
@@ -151,6 +220,10 @@ def scramble(thing):
         elif thing:
             thing.pop()
         thing.append(97)
+    if isinstance(thing, dict):
+        for key in list(thing):
+            thing[key] = Number([-97, 1], Ratio(0), Ratio(100))
+        thing["other"] = Number([-98, 1], Ratio(0), Ratio(100))
 
 
 # Promise 2: what is handed in stays, what is given is the asker's own. Make gives the arguments anew.
@@ -168,3 +241,26 @@ def look_at_sharing(test, call, make):
     scramble(lists)
     test.assertEqual(shown(again), told)
     test.assertEqual(shown(call(*make())), told)
+
+
+class NumberCase(unittest.TestCase):
+    # Promise 20, of a Number with that poly and that worth.
+    def look(self, said, told, root):
+        self.assertIs(type(said), Number)
+        self.assertIs(type(said.poly), list)
+        self.assertEqual(said.poly, told)
+        self.assertEqual(plain_of(told), told)
+        self.assertEqual(without_squares(told), told)
+        self.assertTrue(1 <= len(told) - 1 <= 8)
+        self.assertEqual([type(end) for end in (said.low, said.high)], [Ratio, Ratio])
+        low, high = span((said.low, said.high))
+        self.assertLess(low, high)
+        self.assertNotEqual(value(told, low), 0)
+        self.assertEqual(count(row_of(told), said.low, said.high), 1)
+        self.assertTrue(root.within(low, high))
+
+    def refused(self, kind, call, *given):
+        with self.assertRaises(RootError) as caught:
+            call(*given)
+        self.assertIs(type(caught.exception), kind, given)
+        return caught.exception

@@ -1,7 +1,8 @@
 """Looks at the form of the package's files: a part of LANGUAGE.md alone.
 
-Looked at are signs, sizes, words, kinds of statements, names and imports. Not looked at, so still to be read by eye,
-are L13, L15 but for its names, L18, L19, L22 to L24, L26, L28 and the rest of L27.
+Looked at are signs, sizes, words, kinds of statements, names, imports, classes, and where Python's own names may
+stand. Not looked at, so still to be read by eye, are L13, L15 but for its names, L19, L24, L28, the rest of L18, L22,
+L23 and L27.
 """
 
 import ast
@@ -170,6 +171,87 @@ class Form(unittest.TestCase):
                 if isinstance(node, ast.Name) and isinstance(node.ctx, ast.Store):
                     name = node.id
                 self.assertNotIn(name, taken, path.name)
+
+    # L18 and L26: methods and values of the package's own.
+    def test_methods_and_values(self):
+        methods, values = set(), set()
+        for tree in self.trees.values():
+            for node in ast.walk(tree):
+                if isinstance(node, ast.ClassDef):
+                    names = [part.name for part in node.body if isinstance(part, ast.FunctionDef)]
+                    self.assertEqual(len(names), len(set(names)), node.name)
+                    methods.update(set(names) - set(METHODS))
+                elif isinstance(node, ast.Attribute) and isinstance(node.ctx, ast.Store):
+                    values.add(node.attr)
+        self.assertEqual(methods & values, set())
+        taken = set().union(*[dir(kind) for kind in (str, int, list, dict, set, frozenset, bytes, tuple, float, Exception)])
+        self.assertEqual((methods | values) & taken, set())
+        self.assertEqual((methods | values) & set("register mro elements open input version_info format args".split()), set())
+
+    # L18: a class is called, is a base, or stands by isinstance, except or raise.
+    def test_where_classes_stand(self):
+        classes = {node.name for tree in self.trees.values() for node in tree.body if isinstance(node, ast.ClassDef)}
+        classes |= {"ValueError"}
+        for path, tree in self.trees.items():
+            free = set()
+            for node in ast.walk(tree):
+                if isinstance(node, ast.Call):
+                    free.add(id(node.func))
+                    if isinstance(node.func, ast.Name) and node.func.id == "isinstance":
+                        free.update(id(part) for part in ast.walk(node.args[1]))
+                elif isinstance(node, ast.ClassDef):
+                    free.update(map(id, node.bases))
+                elif isinstance(node, ast.ExceptHandler):
+                    self.assertIsNotNone(node.type)
+                    free.update(id(part) for part in ast.walk(node.type))
+                elif isinstance(node, ast.Attribute):
+                    self.assertFalse(isinstance(node.value, ast.Name) and node.value.id in classes and node.attr != "__init__")
+            for node in ast.walk(tree):
+                if isinstance(node, ast.Name) and node.id in classes:
+                    self.assertIn(id(node), free, f"{path.name}:{node.lineno}")
+
+    # L22 and L23: Python's own names are called, with few keywords, and what is walked is walked on the spot.
+    def test_how_names_of_pythons_own_are_called(self):
+        keywords = {"sorted": {"key", "reverse"}, "min": {"key", "default"}, "max": {"key", "default"}, "sum": {"start"}, "enumerate": {"start"}, "zip": {"strict"}}
+        walkers = ("list", "tuple", "dict", "sorted", "sum", "any", "all", "enumerate", "zip", "min", "max")
+        for path, tree in self.trees.items():
+            called, walked = set(), set()
+            for node in ast.walk(tree):
+                if isinstance(node, ast.Call):
+                    called.add(id(node.func))
+                    name = node.func.id if isinstance(node.func, ast.Name) else None
+                    if name in OWN_NAMES or (isinstance(node.func, ast.Attribute) and node.func.attr in OWN_METHODS):
+                        self.assertTrue({word.arg for word in node.keywords} <= keywords.get(name, set()), f"{path.name}:{node.lineno}")
+                    if name in walkers:
+                        walked.update(map(id, node.args if name == "zip" else node.args[:1]))
+                    if isinstance(node.func, ast.Attribute) and node.func.attr == "join":
+                        self.assertIsInstance(node.func.value, ast.Constant)
+                        walked.update(map(id, node.args))
+                    if name == "isinstance":
+                        called.update(id(part) for part in ast.walk(node.args[1]))
+                elif isinstance(node, (ast.For, ast.comprehension)):
+                    walked.add(id(node.iter))
+                elif isinstance(node, ast.ClassDef):
+                    called.update(map(id, node.bases))
+                elif isinstance(node, ast.ExceptHandler):
+                    called.update(id(part) for part in ast.walk(node.type))
+            for node in ast.walk(tree):
+                where = f"{path.name}:{getattr(node, 'lineno', 0)}"
+                if isinstance(node, ast.Name) and node.id in OWN_NAMES:
+                    self.assertIn(id(node), called, where)
+                if isinstance(node, ast.Attribute) and node.attr in OWN_METHODS:
+                    self.assertIn(id(node), called, where)
+                if isinstance(node, ast.Call):
+                    name = node.func.id if isinstance(node.func, ast.Name) else getattr(node.func, "attr", None)
+                    if name in ("zip", "enumerate", "reversed", "range", "items", "keys", "values"):
+                        self.assertIn(id(node), walked, where)
+
+    # L27: no sign that marks a place within a text, and no escape but a few.
+    def test_texts(self):
+        for where, node in self.each():
+            if isinstance(node, ast.Constant) and isinstance(node.value, str):
+                self.assertNotIn("%", node.value, where)
+                self.assertTrue(all(" " <= sign <= "~" or sign in "\n\t" for sign in node.value), where)
 
 
 if __name__ == "__main__":

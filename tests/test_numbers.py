@@ -3,41 +3,18 @@ import unittest
 from fractions import Fraction
 
 from helpers import (
-    Known, line, look_at_sharing, plain_of, product, raised, ratio, rational, row_with, scaled, shown, span, squares, value, worth,
+    Known, NumberCase, line, look_at_sharing, product, raised, ratio, rational, row_with, scaled, shown, span, squares, worth,
 )
 from rootspan.errors import NoRoot, RootError, TooGreat, TooHigh
-from rootspan.factors import without_squares
 from rootspan.numbers import Number, fraction, narrow, number, roots
 from rootspan.ratios import Ratio
-from rootspan.sturm import count, row_of
 
 FULL = 10 ** 120 - 1
 CUBE = Known(0, 1, 2, 3)
 HALF = Known(Fraction(1, 2))
 
 
-class Looks(unittest.TestCase):
-    # Promise 20, of a Number with that poly and that worth.
-    def look(self, said, told, root):
-        self.assertIs(type(said), Number)
-        self.assertIs(type(said.poly), list)
-        self.assertEqual(said.poly, told)
-        self.assertEqual(plain_of(told), told)
-        self.assertEqual(without_squares(told), told)
-        self.assertTrue(1 <= len(told) - 1 <= 8)
-        self.assertEqual([type(end) for end in (said.low, said.high)], [Ratio, Ratio])
-        low, high = span((said.low, said.high))
-        self.assertLess(low, high)
-        self.assertNotEqual(value(told, low), 0)
-        self.assertEqual(count(row_of(told), said.low, said.high), 1)
-        self.assertTrue(root.within(low, high))
-
-    def refused(self, kind, call, *given):
-        with self.assertRaises(RootError) as caught:
-            call(*given)
-        self.assertIs(type(caught.exception), kind, given)
-        return caught.exception
-
+class Looks(NumberCase):
     def no_root(self, many, *given):
         told = self.refused(NoRoot, number, *given).many
         self.assertEqual(told, many)
