@@ -1,6 +1,6 @@
 """Spans that hold one root: found by halving from the bound on, and narrowed by halving."""
 
-from rootspan.polys import added, degree, multiplied, poly, sign_at, value_parts
+from rootspan.polys import added, degree, multiplied, poly, sign_at
 from rootspan.ratios import Ratio, shared, whole_sign
 from rootspan.sturm import changes, row_of
 
@@ -73,20 +73,45 @@ def stretched(row, low, reach):
     return found
 
 
-# The sign at low is not asked, since low may be another root; end is the sign at the high of each half.
+# The sign at low is not asked, since low may be another root; end is the sign at the high of each half. The
+# polynomial is brought to the half each time, which takes sums alone: to reckon its value anew at each cut would
+# multiply ever greater numbers.
 def halved(row, end, steps):
     place = 0
     pieces = 1
     ahead = end
+    left = row
     for k in range(steps):
         place = 2 * place
         pieces = 2 * pieces
-        there = whole_sign(value_parts(row, place + 1, pieces)[0])
+        left = spread(left)
+        there = whole_sign(sum(left))
         if there != 0 and there != ahead:
             place = place + 1
+            left = moved(left)
         else:
             ahead = there
     return (place, pieces)
+
+
+# P at t / 2, times 2 to the power of its degree: what lay at the middle of the span from 0 to 1 lies at 1.
+def spread(row):
+    found = []
+    factor = 1
+    for value in reversed(row):
+        found.append(factor * value)
+        factor = 2 * factor
+    found.reverse()
+    return found
+
+
+# P at t + 1.
+def moved(row):
+    found = list(row)
+    for start in range(degree(row)):
+        for k in range(degree(row) - 1, start - 1, -1):
+            found[k] = found[k] + found[k + 1]
+    return found
 
 
 def along(low, reach, place, pieces):

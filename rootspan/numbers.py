@@ -71,8 +71,12 @@ def roots(row):
 
 
 def narrow(one, width):
-    span = narrowed(one.poly, one.low, one.high, width)
+    span = span_of(one, width)
     return Number(one.poly, span[0], span[1])
+
+
+def span_of(one, width):
+    return narrowed(one.poly, one.low, one.high, width)
 
 
 def against(one, ratio):

@@ -43,6 +43,10 @@ class Reading:
         if not self.passes(mark):
             raise NoText(self.begin())
 
+    def finish(self):
+        if self.done < len(self.marks):
+            raise NoText(self.begin())
+
     def enter(self):
         if self.depth == DEEPEST:
             raise NoText(self.begin())
@@ -57,14 +61,14 @@ class Reading:
 def read(text):
     reading = Reading(text)
     tree = read_sum(reading)
-    reading.demand("")
+    reading.finish()
     return tree
 
 
 def read_poly(text):
     reading = Reading(text)
     row = read_terms(reading)
-    reading.demand("")
+    reading.finish()
     return row
 
 

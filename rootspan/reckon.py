@@ -1,9 +1,9 @@
 """Reckoning with Numbers: opposites, inverses, sums, products, powers and roots, each with its poly and a new span."""
 
-from rootspan.cells import bound, middle, narrowed
+from rootspan.cells import bound, middle
 from rootspan.errors import BelowNought, ByNought
 from rootspan.factors import without_squares
-from rootspan.numbers import Number, against, fraction, narrow, number_in, refuse_great, refuse_high, sign_of
+from rootspan.numbers import Number, against, fraction, narrow, number_in, refuse_great, refuse_high, sign_of, span_of
 from rootspan.polys import degree, flipped, lifted, plain, turned
 from rootspan.ratios import Ratio
 from rootspan.resultants import powers, products, sums
@@ -84,10 +84,6 @@ def root_beyond(one, k, cut):
     for step in range(k):
         raised = raised.times(cut)
     return against(one, raised) > 0
-
-
-def span_of(one, width):
-    return narrowed(one.poly, one.low, one.high, width)
 
 
 # Ends tells, of a width, the ends between which the worth lies when the numbers it is made of are narrowed so far.
